@@ -1,0 +1,1 @@
+"""Finallycopies: finally blocks lowered without flags."""

@@ -1,0 +1,56 @@
+"""The rules of the Python subset that can be told from the text of the package's files."""
+
+import ast
+import pathlib
+import unittest
+
+PACKAGE = pathlib.Path(__file__).resolve().parent.parent / "finallycopies"
+LIBRARY = ("heapq", "math", "itertools", "collections", "__future__")
+
+
+def sources():
+    return [path for path in sorted(PACKAGE.rglob("*")) if "__pycache__" not in path.parts]
+
+
+class Language(unittest.TestCase):
+    def test_only_files_of_python(self):
+        self.assertTrue((PACKAGE / "__init__.py").is_file())
+        for path in sources():
+            self.assertEqual(path.suffix, ".py", path)
+
+    def test_characters_and_sizes(self):
+        for path in sources():
+            text = path.read_bytes().decode("ascii")
+            self.assertLessEqual(len(text.split("\n")), 400, path)
+            self.assertTrue(all(letter == "\n" or " " <= letter <= "~" for letter in text), path)
+            self.assertLessEqual(max(map(len, text.split("\n"))), 120, path)
+
+    def test_functions_are_small(self):
+        for path in sources():
+            for node in ast.walk(ast.parse(path.read_text())):
+                if isinstance(node, ast.FunctionDef):
+                    self.assertLessEqual(node.end_lineno - node.lineno + 1, 40, (path, node.name))
+
+    def test_imports(self):
+        for path in sources():
+            for node in ast.walk(ast.parse(path.read_text())):
+                self.assertNotIsInstance(node, ast.Import, path)
+                if isinstance(node, ast.ImportFrom):
+                    self.assertEqual(node.level, 0, path)
+                    self.assertIn(node.module.split(".")[0], ("finallycopies",) + LIBRARY, path)
+                    self.assertNotIn("*", [name.name for name in node.names], path)
+
+    def test_nothing_runs_at_module_level(self):
+        allowed = (ast.ImportFrom, ast.FunctionDef, ast.ClassDef, ast.Assign, ast.Expr)
+        for path in sources():
+            for node in ast.parse(path.read_text()).body:
+                self.assertIsInstance(node, allowed, path)
+                if isinstance(node, ast.Expr):
+                    self.assertIsInstance(node.value, ast.Constant, path)
+                if isinstance(node, ast.Assign):
+                    calls = [inner for inner in ast.walk(node) if isinstance(inner, ast.Call)]
+                    self.assertEqual(calls, [], path)
+
+
+if __name__ == "__main__":
+    unittest.main()
