@@ -113,6 +113,7 @@ class Code:
         self._heads = []
         self._parents = []
         self._parts = []
+        self._siblings = []
         self._layers = []
         # A spot is an object, the number of the statement of which it is a part, its level, the
         # number of whiles around it, and the finals in whose finally blocks it stands. They wait
@@ -133,8 +134,11 @@ class Code:
         self._heads.append(head_of(statement))
         self._parents.append(parent)
         self._parts.append([])
+        self._siblings.append(None)
         self._layers.append(layers)
         if parent is not None:
+            if self._parts[parent]:
+                self._siblings[self._parts[parent][-1]] = number
             self._parts[parent].append(number)
 
     def __len__(self):
@@ -145,31 +149,42 @@ class Code:
         return isinstance(other, Code) and self._heads == other._heads
 
     def __getitem__(self, at):
-        self._require_number(at)
+        self.require_number(at)
         return self._statements[at]
 
     def __iter__(self):
         raise TypeError("a code is not iterated over")
 
-    def _require_number(self, number):
+    def require_number(self, number):
         """Raise an error unless any object is the number of a statement."""
         if not is_integer(number) or not 0 <= number < len(self._statements):
             raise InvalidNumber(number)
 
+    def require_place(self, place):
+        """Raise an error unless any object is a place."""
+        self.require_number(place)
+        if self._heads[place][0] in PLACELESS:
+            raise InvalidNumber(place)
+
     def kind(self, number):
         """The first item of the statement with a number."""
-        self._require_number(number)
+        self.require_number(number)
         return self._heads[number][0]
 
     def parent(self, number):
         """The number of the statement of which a statement is a part; None for the whole."""
-        self._require_number(number)
+        self.require_number(number)
         return self._parents[number]
 
     def parts(self, number):
         """The list of the numbers of the parts of a statement."""
-        self._require_number(number)
+        self.require_number(number)
         return list(self._parts[number])
+
+    def sibling(self, number):
+        """The part that comes next after a statement in the one around it; None behind the last."""
+        self.require_number(number)
+        return self._siblings[number]
 
     def places(self):
         """The ascending list of the places."""
@@ -177,7 +192,7 @@ class Code:
 
     def entry(self, number):
         """The place at which a statement begins."""
-        self._require_number(number)
+        self.require_number(number)
         while self._heads[number][0] in ENTERED:
             # In preorder the first part comes right behind its statement.
             number = number + 1
@@ -185,10 +200,7 @@ class Code:
 
     def layers(self, place):
         """The list of the finals in whose finally blocks a place stands, the outermost first."""
-        self._require_number(place)
-        kind = self._heads[place][0]
-        if kind in PLACELESS:
-            raise InvalidNumber(place)
-        if kind == "final":
+        self.require_place(place)
+        if self._heads[place][0] == "final":
             return self._layers[place] + [place]
         return list(self._layers[place])

@@ -6,11 +6,7 @@ import unittest
 
 from finallycopies.code import Code
 from finallycopies.errors import InvalidNumber
-from samples import MIXED, WHILE, Anything, all_of_size, chain, flat
-
-NO_NUMBERS = (True, False, None, "", "0", b"0", (), (0,), [], [0], {}, {0}, {0: 0}, 1j, object())
-NO_NUMBERS += (-1, -2, -(10**39), 10**39, slice(0, 1), int, range(1), lambda: 0)
-
+from samples import MIXED, NO_NUMBERS, WHILE, Anything, all_of_size, chain, flat
 
 def parts_of(statement):
     if statement[0] == "seq":
@@ -118,10 +114,17 @@ class Numbers(unittest.TestCase):
         wanted += [("continue", []), ("final", [7, 8]), ("raise", []), ("break", [])]
         self.assertEqual(found, wanted)
 
+    def test_the_next_part_of_the_statement_around(self):
+        code = Code(MIXED)
+        for number in range(len(code)):
+            parts = code.parts(number)
+            self.assertEqual([code.sibling(part) for part in parts], (parts + [None])[1 : len(parts) + 1])
+        self.assertIsNone(code.sibling(0))
+
     def test_no_numbers(self):
         code = Code(WHILE)
         for value in NO_NUMBERS + (len(code), len(code) + 1):
-            for asked in (code.kind, code.parent, code.parts, code.entry, code.layers, code.__getitem__):
+            for asked in (code.kind, code.parent, code.parts, code.entry, code.layers, code.sibling, code.__getitem__):
                 with self.subTest(value=value, asked=asked):
                     with self.assertRaises(InvalidNumber) as caught:
                         asked(value)

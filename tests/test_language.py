@@ -1,6 +1,7 @@
 """The rules of the Python subset that can be told from the text of the package's files."""
 
 import ast
+import builtins
 import pathlib
 import unittest
 
@@ -50,6 +51,48 @@ class Language(unittest.TestCase):
                 if isinstance(node, ast.Assign):
                     calls = [inner for inner in ast.walk(node) if isinstance(inner, ast.Call)]
                     self.assertEqual(calls, [], path)
+
+    def test_names_are_imported_from_the_files_that_define_them(self):
+        trees = {f"finallycopies.{path.stem}": ast.parse(path.read_text()) for path in sources()}
+        for tree in trees.values():
+            for node in tree.body:
+                if isinstance(node, ast.ImportFrom) and node.module in trees:
+                    defined = bound_at_module_level(trees[node.module])
+                    for name in node.names:
+                        self.assertIsNone(name.asname)
+                        self.assertEqual(defined.count(name.name), 1, (node.module, name.name))
+
+    def test_no_two_files_import_from_each_other(self):
+        imports = {path.stem: set() for path in sources()}
+        for path in sources():
+            for node in ast.parse(path.read_text()).body:
+                if isinstance(node, ast.ImportFrom) and node.module.startswith("finallycopies."):
+                    imports[path.stem].add(node.module.split(".")[1])
+        while imports:
+            free = [name for name in imports if not imports[name] & set(imports)]
+            self.assertTrue(free, imports)
+            for name in free:
+                del imports[name]
+
+    def test_names_have_one_meaning(self):
+        for path in sources():
+            tree = ast.parse(path.read_text())
+            imported = [name.name for node in tree.body if isinstance(node, ast.ImportFrom) for name in node.names]
+            classes = [node.name for node in tree.body if isinstance(node, ast.ClassDef)]
+            for node in ast.walk(tree):
+                name = getattr(node, "arg", None) or getattr(node, "id", None)
+                if isinstance(node, ast.arg) or isinstance(getattr(node, "ctx", None), ast.Store):
+                    self.assertNotIn(name, imported + classes, path)
+                    self.assertFalse(name is not None and hasattr(builtins, name), (path, name))
+
+
+def bound_at_module_level(tree):
+    """The names that a file defines itself."""
+    found = [node.name for node in tree.body if isinstance(node, (ast.FunctionDef, ast.ClassDef))]
+    for node in tree.body:
+        if isinstance(node, ast.Assign):
+            found.extend([target.id for target in node.targets])
+    return found
 
 
 if __name__ == "__main__":
