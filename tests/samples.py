@@ -94,7 +94,7 @@ def random_leaf(chance, whiles):
     jump = chance.choice(["break", "continue"])
     if whiles and chance.randint(0, 2) == 0:
         return (jump, chance.randint(1, whiles))
-    return chance.choice([("do", "a"), ("do", "a"), ("call", "a"), ("call", "a"), ("call", "a"), ("return",), ("raise",)])
+    return chance.choice([("do", "a")] * 2 + [("call", "a")] * 3 + [("return",), ("raise",)])
 
 
 def random_statement(chance, size, whiles=0):
