@@ -43,7 +43,7 @@ def needed_layers(outcomes, place):
                 found.append(outer)
         table = outcomes.around(number, table)
         number = outer
-    return list(reversed(found))
+    return found[::-1]
 
 
 def ways_by_route(outcomes, final):

@@ -85,6 +85,15 @@ class Language(unittest.TestCase):
                     self.assertNotIn(name, imported + classes, path)
                     self.assertFalse(name is not None and hasattr(builtins, name), (path, name))
 
+    def test_reversed_stands_over_what_is_written(self):
+        written = ("list", "tuple", "sorted", "range")
+        for path in sources():
+            for node in ast.walk(ast.parse(path.read_text())):
+                if isinstance(node, ast.Call) and getattr(node.func, "id", None) == "reversed":
+                    over = node.args[0]
+                    called = isinstance(over, ast.Call) and getattr(over.func, "id", None) in written
+                    self.assertTrue(called or isinstance(over, (ast.List, ast.Tuple)), (path, node.lineno))
+
 
 def bound_at_module_level(tree):
     """The names that a file defines itself."""

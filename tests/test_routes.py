@@ -336,6 +336,16 @@ class NewLists(unittest.TestCase):
             ask().insert(0, 7)
         self.assertEqual([ask() for ask in asked], before)
 
+    def test_several_needed_layers_are_a_new_list(self):
+        inner = ("if", "y", ("break", 3), ("if", "y", ("break", 2), ("do", "z")))
+        for _ in range(3):
+            inner = ("final", ("call", "x"), ("while", "w", inner))
+        code = Code(inner)
+        first = needed(code, 9)
+        self.assertEqual([first, code.layers(9)], [[0, 3, 6], [0, 3, 6]])
+        first.reverse()
+        self.assertEqual([needed(code, 9), code.layers(9), first], [[0, 3, 6], [0, 3, 6], [6, 3, 0]])
+
     def test_a_group_is_not_another_one(self):
         found = sharing(Code(WHILE), 1)
         found[0].append(NORMAL)
