@@ -2,8 +2,19 @@
 
 from finallycopies.arrivals import arrivals
 from finallycopies.outcomes import Outcomes
-from finallycopies.routes import needed_layers, ways_by_route
+from finallycopies.routes import needed_layers, routes_behind
 from finallycopies.wholes import is_integer
+
+
+def layers_of(finals):
+    """The integer that stands for some finals, as layers that are needed together."""
+    return sum([1 << final for final in finals])
+
+
+def innermost(layers):
+    """The innermost of one or more layers, and the others."""
+    inner = layers.bit_length() - 1
+    return (inner, layers - (1 << inner))
 
 
 class Counts:
@@ -16,17 +27,18 @@ class Counts:
     def __init__(self, code):
         self.source = code
         self.outcomes = Outcomes(code)
-        found = arrivals(self.outcomes)
+        found = arrivals(self.outcomes, {})
         self.reached = [place for place in code.places() if found[place] is not None]
         self._needs = {}
+        self._behind = {}
+        self._further = {}
         self._choices = {}
         self._sums = {}
 
     def needs(self, place):
         """The layers that are needed at a place."""
         if place not in self._needs:
-            layers = needed_layers(self.outcomes, place)
-            self._needs[place] = sum([1 << layer for layer in layers])
+            self._needs[place] = layers_of(needed_layers(self.outcomes, place))
         return self._needs[place]
 
     def needs_behind(self, follows):
@@ -36,36 +48,62 @@ class Counts:
         for final in blocks:
             found = found | self.needs(self.source.entry(self.source.parts(final)[1]))
         # The pending way of a block that begins on the route is told by the route.
-        own = sum([1 << final for final in blocks])
+        own = layers_of(blocks)
         return (found | own) - own
+
+    def behind(self, final):
+        """By way, ascending: the routes of the ways of the body of a final from the final itself."""
+        if final not in self._behind:
+            found = routes_behind(self.outcomes, final)
+            self._behind[final] = {way: follows for way, follows in found}
+        return self._behind[final]
+
+    def further(self, final):
+        """By route, in the order of their first ways: the layers that are needed behind it."""
+        if final not in self._further:
+            found = self.behind(final)
+            self._further[final] = {follows: self.needs_behind(follows) for follows in found.values()}
+        return self._further[final]
 
     def choices(self, final):
         """By the layers that are needed behind them: how many different routes behind a final there are."""
         if final not in self._choices:
             made = {}
-            for follows in ways_by_route(self.outcomes, final):
-                layers = self.needs_behind(follows)
+            for layers in self.further(final).values():
                 made[layers] = made.get(layers, 0) + 1
             self._choices[final] = made
         return self._choices[final]
 
-    def addresses(self, layers):
-        """How many addresses a reached place has at which layers are needed."""
+    def choices_with(self, final, flagged):
+        """The choices, of which a flagged final has one, with all that any of its routes needs."""
+        found = self.choices(final)
+        if flagged & (1 << final) == 0:
+            return found
+        together = 0
+        for layers in found:
+            together = together | layers
+        return {together: 1}
+
+    def addresses(self, layers, flagged):
+        """How many addresses a reached place has at which layers are needed, if some finals are flagged."""
         if layers == 0:
             return 1
-        if layers not in self._sums:
-            inner = layers.bit_length() - 1
-            others = layers - (1 << inner)
+        if (layers, flagged) not in self._sums:
+            inner, others = innermost(layers)
             found = 0
             # Only layers around the inner one are needed behind it: this goes at most 25 deep.
-            for further, many in self.choices(inner).items():
-                found = found + many * self.addresses(others | further)
-            self._sums[layers] = found
-        return self._sums[layers]
+            for further, many in self.choices_with(inner, flagged).items():
+                found = found + many * self.addresses(others | further, flagged)
+            self._sums[(layers, flagged)] = found
+        return self._sums[(layers, flagged)]
 
-    def copies(self, place):
-        """How many addresses a place has."""
-        return self.addresses(self.needs(place)) if place in self.reached else 0
+    def copies(self, place, flagged):
+        """How many addresses a place has, if some finals are flagged."""
+        return self.addresses(self.needs(place), flagged) if place in self.reached else 0
+
+    def total(self, flagged):
+        """How many addresses all places have, if some finals are flagged."""
+        return sum([self.copies(place, flagged) for place in self.reached])
 
     def moments(self, place):
         """How many moments there are at a place."""
@@ -87,7 +125,7 @@ def moments(code, place):
 def copies(code, place):
     """How many addresses a place has."""
     code.require_place(place)
-    return Counts(code).copies(place)
+    return Counts(code).copies(place, 0)
 
 
 def all_moments(code):
@@ -98,8 +136,7 @@ def all_moments(code):
 
 def total(code):
     """How many addresses all places have: the rows of the least lowered program."""
-    counts = Counts(code)
-    return sum([counts.copies(place) for place in counts.reached])
+    return Counts(code).total(0)
 
 
 def most_copied(code):
@@ -107,7 +144,7 @@ def most_copied(code):
     counts = Counts(code)
     most = (0, None)
     for place in counts.reached:
-        many = counts.copies(place)
+        many = counts.copies(place, 0)
         if many > most[0]:
             most = (many, place)
     return most

@@ -4,9 +4,9 @@ from finallycopies.code import ENTERED
 from finallycopies.onward import NORMAL, RAISE, begins_next, comes_back, way_outside
 
 
-def length_first(answers):
-    """A key that puts shorter lists of answers first, and the least first among equally long ones."""
-    return (len(answers), answers)
+def length_first(items):
+    """A key that puts shorter lists first, and the least first among equally long ones."""
+    return (len(items), items)
 
 
 def first_shortest(lists):

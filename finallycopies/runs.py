@@ -42,12 +42,12 @@ class Run:
 class Walk:
     """A run that is on its way; spot is the place that is next, or the text of the end."""
 
-    def __init__(self, code):
+    def __init__(self, code, spot, pending):
         self.source = code
-        self.spot = code.entry(0)
+        self.spot = spot
         # By final: the way that was last pending there. What is dropped may stay here, since a
         # block that begins again puts its own pending way in the place of the old one.
-        self.pending = {}
+        self.pending = dict(pending)
 
     def ended(self):
         """Whether the run has ended."""
@@ -83,9 +83,16 @@ class Walk:
         if final is not None:
             self.pending[final] = way
 
-    def pendings(self):
-        """For each layer of the next place the layer and the pending way, the outermost first."""
-        return [(layer, self.pending[layer]) for layer in self.source.layers(self.spot)]
+    def now(self):
+        """The place that is next, and the pending way of each of its layers; or the end and none."""
+        if self.ended():
+            return (self.spot, [])
+        return (self.spot, [(layer, self.pending[layer]) for layer in self.source.layers(self.spot)])
+
+
+def begin(code):
+    """A run of a code that has done nothing yet."""
+    return Walk(code, code.entry(0), {})
 
 
 def follow(walk, answers):
@@ -107,7 +114,7 @@ def follow(walk, answers):
 def run(code, answers):
     """The direct run of a code with answers."""
     check_answers(answers)
-    walk = Walk(code)
+    walk = begin(code)
     visited, used = follow(walk, answers)
     return Run(visited, used, walk.spot if walk.ended() else "wait")
 
@@ -115,8 +122,6 @@ def run(code, answers):
 def moment(code, answers):
     """The place at which a run waits, and the pending ways of its layers; or the end and none."""
     check_answers(answers)
-    walk = Walk(code)
+    walk = begin(code)
     follow(walk, answers)
-    if walk.ended():
-        return (walk.spot, [])
-    return (walk.spot, walk.pendings())
+    return walk.now()

@@ -34,16 +34,16 @@ def way_answers(code, number, way):
 def place_answers(code, place):
     """The first shortest answers with which a run comes to a place, or None."""
     code.require_place(place)
-    return arrivals(Outcomes(code))[place]
+    return arrivals(Outcomes(code), {})[place]
 
 
 def reached(code):
     """The ascending list of the places to which some run comes."""
-    found = arrivals(Outcomes(code))
+    found = arrivals(Outcomes(code), {})
     return [place for place in code.places() if found[place] is not None]
 
 
 def dead(code):
     """The ascending list of the statements whose entry no run comes to."""
-    begun = beginnings(Outcomes(code))
+    begun = beginnings(Outcomes(code), {})
     return [number for number in range(len(code)) if begun[number] is None]

@@ -10,27 +10,7 @@ from finallycopies.counts import all_moments, copies, moments, most_copied, tota
 from finallycopies.errors import InvalidNumber
 from finallycopies.ways import reached
 from samples import DROPPING, MIXED, NO_NUMBERS, WHILE, all_of_size, chain, flat, random_statements
-
-# Left in three ways.
-THREE = ("if", "a", ("call", "b"), ("return",))
-
-
-def tower(count, body):
-    """Finals in the blocks of finals; each raise comes to a handler in the block around it."""
-    made = ("do", "z")
-    for _ in range(count):
-        made = ("final", body, ("try", made, ("do", "h")))
-    return made
-
-
-def breaking(count):
-    """Finals in whiles in the blocks of finals; each body can break to the end of two blocks around."""
-    made = ("do", "z")
-    for _ in range(count):
-        body = ("if", "a", ("break", 1), ("if", "b", ("break", 2), ("do", "x")))
-        made = ("final", body, ("while", "w", made))
-    return ("while", "v", ("while", "w", made))
-
+from towers import THREE, breaking, scattered, tower
 
 def counted(code, places):
     return [copies(code, place) for place in places]
@@ -239,6 +219,20 @@ class Towers(unittest.TestCase):
                 self.assertEqual(counted(code, [final, final + 1, final + 6]), wanted)
                 self.assertEqual(moments(code, final), 3**layer)
             self.assertEqual(copies(code, len(code) - 1), alone[count])
+
+    def test_layers_that_are_known_together_in_very_many_ways(self):
+        # Behind each of the layers 18 to 25 there are 18 routes: to the end of one of the blocks 1
+        # to 17, behind which there is one, or out of all. All of 18 to 25 are known at the innermost
+        # while and if, and those that the code can come to from there at the others.
+        code = Code(scattered(17, 8))
+        powers = [18**count for count in range(9)]
+        inner = len(code) - 17
+        self.assertEqual(counted(code, [inner - 1, inner, len(code) - 1]), [powers[8], powers[8], 1])
+        # The innermost ifs and whiles, breaks, ends of blocks, and the 35 places of each body.
+        wanted = 2 * sum(powers[1:]) + 8 * 18 + 8 * 18 + 35 * sum(powers[:8])
+        # The innermost return, and three places of each of the levels 1 to 17.
+        self.assertEqual(total(code), wanted + 1 + 3 * 17)
+        self.assertEqual(most_copied(code), (powers[8], inner - 1))
 
     def test_blocks_in_blocks_without_a_choice(self):
         code = Code(chain("block", 25, ("call", "a")))
