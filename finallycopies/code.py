@@ -93,6 +93,13 @@ def parts_of(statement):
     return list(statement[2:])
 
 
+def statement_of(head, parts):
+    """The statement with a head and parts."""
+    if head[0] == "seq":
+        return ("seq", tuple(parts))
+    return (*head, *parts)
+
+
 def spots_inside(spot, number):
     """The spots of the parts of the statement of a spot, which has a number, in their order."""
     statement, _, level, whiles, layers = spot

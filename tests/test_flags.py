@@ -216,7 +216,8 @@ class FewestFlags(unittest.TestCase):
         two = ("seq", (("final", ("call", "a"), ("do", "b")), ("final", ("call", "c"), ("do", "d"))))
         code = Code(two)
         self.assertEqual([total_with(code, chosen) for chosen in some_of([1, 4])], [10, 8, 8, 6])
-        self.assertEqual([fewest_flags(code, most) for most in (10, 9, 8, 7, 6, 5)], [[], [1], [1], [1, 4], [1, 4], None])
+        found = [fewest_flags(code, most) for most in (10, 9, 8, 7, 6, 5)]
+        self.assertEqual(found, [[], [1], [1], [1, 4], [1, 4], None])
         two = ("seq", (("final", ("call", "a"), ("do", "b")), ("final", THREE, ("do", "d"))))
         self.assertEqual([fewest_flags(Code(two), most) for most in (14, 13, 12, 11, 10)], [[], [1], [1], [4], [4]])
 

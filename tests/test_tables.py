@@ -251,8 +251,8 @@ class Check(unittest.TestCase):
         self.assertEqual(check_table(code, rows), [0])
 
     def test_rings_that_never_ask(self):
-        code = Code(("seq", (("do", "a"), ("do", "b"), ("call", "c"), ("do", "d"))))
-        self.assertEqual(table(code), [(1, 1), (2, 2), (3, 3, "raise"), (4, "end")])
+        statement = ("seq", (("do", "a"), ("do", "b"), ("call", "c"), ("do", "d")))
+        self.assertEqual(table(Code(statement)), [(1, 1), (2, 2), (3, 3, "raise"), (4, "end")])
         for rows, wanted in (
             ([(1, 0)], []),
             ([(1, 1), (2, 0)], []),
@@ -261,7 +261,7 @@ class Check(unittest.TestCase):
             ([(1, 1), (2, 2), (3, 3, 4), (4, "end"), (4, 4)], [1]),
             ([(1, 1), (2, 2), (3, "end", 0), (4, "end")], [0]),
         ):
-            self.assertEqual(self.compare(("seq", (("do", "a"), ("do", "b"), ("call", "c"), ("do", "d"))), rows), wanted)
+            self.assertEqual(self.compare(statement, rows), wanted)
         self.assertEqual(table_run([(1, 1), (2, 0)], [])[1], FOREVER)
 
     def test_exactly_three_hundred_pairs(self):
@@ -434,7 +434,8 @@ class Errors(unittest.TestCase):
 class NewResults(unittest.TestCase):
     def test_changing_a_result_changes_no_later_one(self):
         c = Code(WHILE)
-        asked = [lambda: table(c), lambda: check_table(c, ONE_COPY), lambda: merged(c, ROWS), lambda: merged(c, ONE_COPY)]
+        asked = [lambda: table(c), lambda: check_table(c, ONE_COPY)]
+        asked += [lambda: merged(c, ROWS), lambda: merged(c, ONE_COPY)]
         before = [list(ask()) for ask in asked]
         for ask in asked:
             ask().insert(0, 7)
