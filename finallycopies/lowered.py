@@ -100,11 +100,11 @@ class Lowered:
             place = self.place(address)
             pending = self._pending(address)
             answers = [0, 1] if self._source.kind(place) in ASKING else [None]
-            items = [self._behind(place, pending, answer) for answer in answers]
+            items = [self._item_behind(place, pending, answer) for answer in answers]
             self._rows[address] = (place, *items)
         return self._rows[address]
 
-    def _behind(self, place, pending, answer):
+    def _item_behind(self, place, pending, answer):
         """The address behind a place, or the text of the end."""
         walk = Walk(self._source, place, pending)
         walk.step(answer)

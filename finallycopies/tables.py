@@ -51,7 +51,8 @@ def in_order(rows, start):
     indexes = {start: 0}
     at = 0
     while at < len(order):
-        for item in rows[order[at]][1:]:
+        row = rows[order[at]]
+        for item in row[1:]:
             if not isinstance(item, str) and item not in indexes:
                 indexes[item] = len(order)
                 order.append(item)

@@ -152,7 +152,7 @@ class SameSteps(unittest.TestCase):
         one = ("final", ("call", "a"), ("call", "b"))
         self.assertIs(self.compare(one, ("try", one, ("raise",))), None)
         self.assertEqual(self.compare(one, ("seq", (("try", ("call", "a"), ("do", "x")), ("call", "b")))), [1])
-        self.assertEqual(self.compare(one, ("seq", (("try", ("call", "a"), ("seq", (("return",),))), ("call", "b")))), [1])
+        self.assertEqual(self.compare(one, ("seq", (("try", ("call", "a"), ("return",)), ("call", "b")))), [1])
         # Without the finally block it is written twice.
         twice = ("seq", (("try", ("call", "a"), ("seq", (("call", "b"), ("raise",)))), ("call", "b")))
         self.assertIs(self.compare(one, twice), None)
@@ -256,7 +256,8 @@ class WithoutDead(unittest.TestCase):
         self.left(("try", ("try", ("do", "a"), ("do", "b")), ("do", "c")), ("do", "a"))
         self.left(("try", ("final", ("raise",), ("return",)), ("do", "c")), ("final", ("raise",), ("return",)))
         self.left(("try", ("seq", (("return",), ("raise",))), ("do", "c")), ("seq", (("return",),)))
-        self.left(("try", ("raise",), ("seq", (("return",), ("do", "a")))), ("try", ("raise",), ("seq", (("return",),))))
+        statement = ("try", ("raise",), ("seq", (("return",), ("do", "a"))))
+        self.left(statement, ("try", ("raise",), ("seq", (("return",),))))
 
     def test_parts_of_a_seq_that_are_tries(self):
         statement = ("seq", (("try", ("return",), ("do", "a")), ("try", ("do", "b"), ("do", "c"))))

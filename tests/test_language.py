@@ -6,6 +6,15 @@ import pathlib
 import unittest
 
 PACKAGE = pathlib.Path(__file__).resolve().parent.parent / "finallycopies"
+BUILTINS = (
+    "len range enumerate zip min max sum abs sorted reversed int str bool list tuple dict isinstance ord repr any all "
+    "ValueError TypeError KeyError IndexError ArithmeticError"
+).split()
+# Methods of lists, dicts and strings that the package may call.
+CALLED = (
+    "append clear copy count extend find get index insert items join keys pop remove reverse setdefault split "
+    "startswith update values bit_length"
+).split()
 LIBRARY = ("heapq", "math", "itertools", "collections", "__future__")
 
 
@@ -93,6 +102,50 @@ class Language(unittest.TestCase):
                     over = node.args[0]
                     called = isinstance(over, ast.Call) and getattr(over.func, "id", None) in written
                     self.assertTrue(called or isinstance(over, (ast.List, ast.Tuple)), (path, node.lineno))
+
+    def test_builtins_and_methods(self):
+        defined = {node.name for tree in trees() for node in ast.walk(tree) if isinstance(node, ast.FunctionDef)}
+        for tree in trees():
+            for node in ast.walk(tree):
+                if isinstance(node, ast.Name) and hasattr(builtins, node.id):
+                    self.assertIn(node.id, BUILTINS)
+                if isinstance(node, ast.Call) and isinstance(node.func, ast.Attribute):
+                    self.assertIn(node.func.attr, CALLED + sorted(defined))
+
+    def test_no_name_is_a_method_and_an_attribute(self):
+        methods, attributes = set(), set()
+        for tree in trees():
+            for made in [node for node in tree.body if isinstance(node, ast.ClassDef)]:
+                methods |= {node.name for node in made.body if isinstance(node, ast.FunctionDef)}
+                for node in ast.walk(made):
+                    if isinstance(node, ast.Attribute) and isinstance(node.ctx, ast.Store):
+                        attributes.add(node.attr)
+        self.assertEqual(methods & attributes, set())
+        self.assertEqual((methods | attributes) & set(CALLED), set())
+
+    def test_what_is_not_used(self):
+        unused = (ast.GeneratorExp, ast.Set, ast.SetComp, ast.Lambda, ast.Global, ast.With, ast.Yield)
+        unused += (ast.AsyncFunctionDef, ast.Try, ast.Div, ast.Mod, ast.Invert, ast.JoinedStr, ast.Match, ast.NamedExpr)
+        for tree in trees():
+            for node in ast.walk(tree):
+                self.assertNotIsInstance(node, unused)
+                if isinstance(node, ast.Constant):
+                    self.assertNotIsInstance(node.value, float)
+                if isinstance(node, ast.Raise):
+                    self.assertIsInstance(node.exc, ast.Call)
+                if isinstance(node, (ast.For, ast.comprehension)):
+                    self.assertNotEqual(getattr(node.iter, "id", None), "self")
+
+    def test_all_names_that_are_imported_are_used(self):
+        for tree in trees():
+            used = {node.id for node in ast.walk(tree) if isinstance(node, ast.Name)}
+            for node in tree.body:
+                if isinstance(node, ast.ImportFrom):
+                    self.assertEqual([name.name for name in node.names if name.name not in used], [])
+
+
+def trees():
+    return [ast.parse(path.read_text()) for path in sources()]
 
 
 def bound_at_module_level(tree):

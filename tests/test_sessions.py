@@ -13,7 +13,8 @@ from samples import DROPPING, MIXED, WHILE, Anything, flat, random_statements
 from towers import THREE, breaking, tower
 
 METHODS = {"answer": ["value"], "undo": ["count"], "code": [], "answers": [], "places": [], "now": [], "address": []}
-NO_ANSWERS = (2, -1, True, False, None, "0", "", b"", (), (0,), [], [0], {}, {1}, 10**39, -(10**39), object(), Anything())
+NO_ANSWERS = (2, -1, True, False, None, "0", "", b"", (), (0,), [], [0], {}, {1}, 10**39, -(10**39))
+NO_ANSWERS += (object(), Anything())
 NO_COUNTS = (-1, -(10**39), 10**39, True, False, None, "0", "", (), [], [0], {}, {0}, object(), Anything())
 ENDLESS = ("while", "a", ("final", ("call", "b"), ("continue", 1)))
 SAMPLES = [WHILE, MIXED, DROPPING, ENDLESS, tower(2, THREE), breaking(3), tower(25, THREE)]

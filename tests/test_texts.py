@@ -16,11 +16,11 @@ from towers import THREE, breaking, tower
 NO_STRINGS = (None, True, 0, 1, b"return", b"", (), ("return",), [], ["return"], {}, {"return"}, object(), Anything())
 KINDS = ("do", "call", "if", "while", "seq", "break", "continue", "return", "raise", "try", "final")
 # None of these begins a statement.
-NO_KINDS = ("", "a", "1", "DO", "Do", "doo", "d", "finally", "except", "returns", "ret", "do\n", "\tdo", "end", "normal")
+NO_KINDS = ("", "a", "1", "DO", "Do", "doo", "d", "finally", "except", "returns", "ret", "do\n", "\tdo", "end")
 NO_KINDS += ("return\t", "return,", "x" * 5000, "9" * 5000, "0", "-", "final\n", "try:", "seq1", "()", "None", "True")
-NO_NAMES = ("", "abcdefghi", "a1", "A", "aB", "a_", "1", "a-b", "a\n", "\ta", "a.", "'a'", "a" * 5000, "9" * 5000, "a\tb")
+NO_NAMES = ("", "abcdefghi", "a1", "A", "aB", "a_", "1", "a-b", "a\n", "\ta", "a.", "'a'", "a" * 5000, "9" * 5000)
 NO_AMOUNTS = ("", "0", "00", "01", "001", "401", "999", "1000", "+1", "-1", "-0", "1.", "1.0", "1_0", "a", "one", "1a")
-NO_AMOUNTS += ("0x1", "1\n", "\t1", "9" * 5000, "1" * 4301, "0" * 5000 + "1", "1" + "0" * 5000, "10000000000", "1e2", "''")
+NO_AMOUNTS += ("0x1", "1\n", "\t1", "9" * 5000, "1" * 4301, "0" * 5000 + "1", "1" + "0" * 5000, "1" * 20, "1e2", "''")
 AMOUNTS = (1, 2, 9, 10, 39, 40, 99, 100, 101, 299, 300, 399, 400)
 
 
@@ -234,7 +234,8 @@ class Read(unittest.TestCase):
         self.refuse("return" + " a" * 1999, 1)
         self.refuse("return" + " " * 1999, 1)
         self.refuse("try " * 1999 + "return", 2000)
-        for text in ("return" + " a" * 2000, "a " * 2000 + "a", " " * 2000, "return" + " return" * 5000, "x y " * 10**5):
+        texts = ("return" + " a" * 2000, "a " * 2000 + "a", " " * 2000, "return" + " return" * 5000, "x " * 10**5)
+        for text in texts:
             with self.assertRaises(LimitExceeded) as caught:
                 read(text)
             self.assertEqual(caught.exception.limit, 2000)
